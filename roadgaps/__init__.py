@@ -1,0 +1,1 @@
+"""Roadgaps: places along a road told by all distances between them."""
