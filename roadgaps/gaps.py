@@ -31,6 +31,16 @@ def least_lacking(places, gaps):
     return None
 
 
+# None where the places are not part of the list.
+def rest_without(places, gaps):
+    if least_lacking(places, gaps) is not None:
+        return None
+    rest = list(gaps)
+    for gap in gaps_between(places):
+        rest.remove(gap)
+    return rest
+
+
 def lacks(road, gaps):
     check_both(road, gaps)
     return least_lacking(road, gaps)
@@ -43,12 +53,7 @@ def part_of(road, gaps):
 
 def left_over(road, gaps):
     check_both(road, gaps)
-    if least_lacking(road, gaps) is not None:
-        return None
-    rest = list(gaps)
-    for gap in gaps_between(road):
-        rest.remove(gap)
-    return rest
+    return rest_without(road, gaps)
 
 
 def fits(road, gaps):

@@ -4,51 +4,11 @@ import itertools
 import unittest
 from collections import Counter
 
+from cases import GAPS, NO_GAPS, NO_ROADS, TOO_MANY
 from roadgaps.errors import NoGaps, NoRoad, TooMany
 from roadgaps.gaps import fits, lacks, left_over, part_of
 
 ASKED = (part_of, fits, left_over, lacks)
-
-NO_ROADS = ([], [1], [-1, 0], [0, 4001], [0, 2, 2], [0, 5, 3], list(range(51)))
-
-TOO_MANY = {
-    "22 alike": [1] * 22,
-    "22 rising": list(range(1, 23)),
-    "22 up to 4000": list(range(3979, 4001)),
-    "many more": list(range(1, 101)),
-    "22 with nought": [0] + list(range(1, 22)),
-    "22 with one below nought": [-1] + list(range(1, 22)),
-    "22 with 4001": list(range(1, 22)) + [4001],
-    "22 falling": list(range(22, 0, -1)),
-}
-
-NO_GAPS = {
-    "nought": [0],
-    "nought ahead of others": [0, 1, 2],
-    "below nought": [-1],
-    "below nought ahead of others": [-3, 1, 2],
-    "above 4000": [4001],
-    "above 4000 behind others": [1, 2, 4001],
-    "above 4000 ahead of others": [4001, 1],
-    "falling": [2, 1],
-    "falling at the end": [1, 3, 3, 2],
-    "falling in the middle": [1, 5, 4, 6],
-    "falling to nought": [1, 0],
-    "21 with nought": [0] + list(range(1, 21)),
-    "21 falling": list(range(21, 0, -1)),
-}
-
-GAPS = {
-    "none": [],
-    "the least": [1],
-    "the greatest": [4000],
-    "the least and the greatest": [1, 4000],
-    "alike": [3, 3, 3],
-    "21 rising": list(range(1, 22)),
-    "21 of the least": [1] * 21,
-    "21 of the greatest": [4000] * 21,
-    "21 up to 4000": list(range(3980, 4001)),
-}
 
 
 class RefusalTest(unittest.TestCase):
@@ -62,12 +22,12 @@ class RefusalTest(unittest.TestCase):
 
     def test_no_road(self):
         for ask in ASKED:
-            for road in NO_ROADS:
+            for road in NO_ROADS.values():
                 self.assert_refused(NoRoad, ask, road, [1, 2, 3])
 
     def test_no_road_comes_first(self):
         for ask in ASKED:
-            for road in NO_ROADS:
+            for road in NO_ROADS.values():
                 for gaps in list(TOO_MANY.values()) + list(NO_GAPS.values()):
                     self.assert_refused(NoRoad, ask, road, gaps)
 

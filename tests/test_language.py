@@ -120,6 +120,51 @@ class LanguageTest(unittest.TestCase):
         for where, node in each(ast.Attribute):
             self.assertNotIn(node.attr, not_allowed, where)
 
+    def test_texts(self):
+        for where, node in each(ast.Constant):
+            self.assertFalse(isinstance(node.value, str) and "%" in node.value, where)
+        for where, node in each(ast.FormattedValue):
+            self.assertIsInstance(node.value, ast.Name, where)
+            self.assertIsNone(node.format_spec, where)
+
+    def test_is_stands_beside_none_true_and_false(self):
+        for where, node in each(ast.Compare):
+            if any(isinstance(op, (ast.Is, ast.IsNot)) for op in node.ops):
+                self.assertEqual(len(node.ops), 1, where)
+                self.assertIsInstance(node.comparators[0], ast.Constant, where)
+                self.assertIn(node.comparators[0].value, (None, True, False), where)
+
+    def test_handlers(self):
+        for where, node in each(ast.ExceptHandler):
+            self.assertIsNotNone(node.type, where)
+            kinds = node.type.elts if isinstance(node.type, ast.Tuple) else [node.type]
+            names = [kind.id for kind in kinds]
+            self.assertFalse({"Exception", "TypeError"} & set(names), where)
+
+    def test_value_errors_are_taken_round_int_alone(self):
+        for where, node in each(ast.Try):
+            if any("ValueError" in ast.unparse(handler.type) for handler in node.handlers):
+                calls = [part for row in node.body for part in ast.walk(row) if isinstance(part, ast.Call)]
+                self.assertEqual([ast.unparse(call.func) for call in calls], ["int"], where)
+                self.assertEqual(len(node.body), 1, where)
+
+    def test_sets_are_not_kept(self):
+        within = [call.args[0] for _, call in each(ast.Call) if ast.unparse(call.func) in ("sorted", "len")]
+        placed = [ast.unparse(value) for value in within]
+        for where, node in each(ast.Call):
+            if ast.unparse(node.func) == "set":
+                self.assertIn(ast.unparse(node), placed, where)
+        self.assertEqual([where for where, _ in each(ast.Set)], [])
+
+    def test_no_two_files_draw_from_one_another(self):
+        drawn = {path.stem: set() for path in sources()}
+        for where, node in each(ast.ImportFrom):
+            drawn[where.split(".py:")[0]].add(node.module.rpartition(".")[2])
+        while drawn:
+            free = [stem for stem in drawn if not drawn[stem] & set(drawn)]
+            self.assertTrue(free, drawn)
+            drawn = {stem: below for stem, below in drawn.items() if stem not in free}
+
 
 if __name__ == "__main__":
     unittest.main()

@@ -1,49 +1,12 @@
 """Promises 1 to 4 and the spread of 13, over roadgaps/roads.py."""
 
-import itertools
 import unittest
 
+from cases import NO_ROADS, ROADS, small_roads
 from roadgaps.errors import NoRoad
 from roadgaps.roads import distances, mirrored, spread
 
 ASKED = (distances, mirrored, spread)
-
-NO_ROADS = {
-    "no place": [],
-    "fifty-one places": list(range(51)),
-    "fifty-one places up to 4000": list(range(0, 4000, 80)) + [4000],
-    "many more places": list(range(200)),
-    "one place that is not nought": [1],
-    "one place below nought": [-1],
-    "the first place above nought": [1, 2, 5],
-    "the first place below nought": [-1, 0, 5],
-    "the length above 4000": [0, 4001],
-    "the length above 4000 behind others": [0, 1, 3999, 4000, 4001],
-    "nought twice": [0, 0],
-    "a place twice": [0, 2, 2, 5],
-    "the last place twice": [0, 5, 5],
-    "falling at the end": [0, 5, 3],
-    "falling in the middle": [0, 5, 3, 8],
-    "falling at the start": [0, -2, 8],
-    "falling throughout": [5, 3, 0],
-    "above 4000 in the middle": [0, 4001, 5],
-}
-
-ROADS = {
-    "one place": [0],
-    "two places": [0, 1],
-    "the greatest length": [0, 4000],
-    "fifty places": list(range(50)),
-    "fifty places up to 4000": list(range(49)) + [4000],
-    "a ruler": [0, 1, 4, 6],
-}
-
-
-def small_roads(length):
-    """All roads whose places lie from nought to the length."""
-    for size in range(length + 1):
-        for places in itertools.combinations(range(1, length + 1), size):
-            yield [0] + list(places)
 
 
 class RefusalTest(unittest.TestCase):
